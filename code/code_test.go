@@ -31,7 +31,10 @@ var fields = []struct {
 	{api.Store, 's', 'r', 0},
 }
 
-var limits = Limits{Regs: 5, Slots: 6, Vars: 3, Code: 9}
+// limitsFor are such that the Op is one.
+func limitsFor(op int) Limits {
+	return Limits{Unit: op == api.Load || op == api.Store, Regs: 5, Slots: 6, Vars: 3}
+}
 
 func lastOf(kind byte) (int, api.Errno) {
 	switch kind {
@@ -51,10 +54,21 @@ func lastOf(kind byte) (int, api.Errno) {
 	return math.MaxInt, api.OK
 }
 
-func wantFieldError(t *testing.T, x api.Ins, want api.Errno) {
+// wantError: of the instruction x, in the midst of nine.
+func wantError(t *testing.T, x api.Ins, want api.Errno) {
 	t.Helper()
-	if err := FieldError(x, limits); err != want {
-		t.Errorf("FieldError(%+v) = %d; want %d", x, err, want)
+	list := make([]api.Ins, 9)
+	for i := range list {
+		list[i].Op = api.Return
+	}
+	list[4] = x
+	place := 4
+	if want == api.OK {
+		place = 0
+	}
+	err, at := Check(list, limitsFor(x.Op))
+	if err != want || at != place {
+		t.Errorf("Check with %+v = %d, %d; want %d, %d", x, err, at, want, place)
 	}
 }
 
@@ -74,7 +88,7 @@ func TestP5P7EachFieldOfEachOp(t *testing.T) {
 				if kind != 0 && (n < 0 || n > last) {
 					want = err
 				}
-				wantFieldError(t, api.Ins{Op: f.op, D: v[0], A: v[1], B: v[2]}, want)
+				wantError(t, api.Ins{Op: f.op, D: v[0], A: v[1], B: v[2]}, want)
 			}
 		}
 	}
@@ -89,13 +103,44 @@ func TestP5P7FirstFieldFirst(t *testing.T) {
 				want = err
 			}
 		}
-		wantFieldError(t, api.Ins{Op: f.op, D: -1, A: -1, B: -1}, want)
+		wantError(t, api.Ins{Op: f.op, D: -1, A: -1, B: -1}, want)
 	}
 }
 
 func TestP5P7NoOp(t *testing.T) {
 	for _, op := range []int{math.MinInt, -1, 17, 18, 1 << 32, math.MaxInt} {
-		wantFieldError(t, api.Ins{Op: op}, api.ErrOp)
-		wantFieldError(t, api.Ins{Op: op, D: -1, A: -1, B: -1}, api.ErrOp)
+		wantError(t, api.Ins{Op: op}, api.ErrOp)
+		wantError(t, api.Ins{Op: op, D: -1, A: -1, B: -1}, api.ErrOp)
+	}
+}
+
+func TestP5P7OpsOfTheOther(t *testing.T) {
+	for _, f := range fields {
+		forProgram, forUnit := api.OK, api.OK
+		if f.op == api.Load || f.op == api.Store {
+			forProgram = api.ErrOp
+		}
+		if f.op == api.Bind || f.op == api.Tie || f.op == api.Free {
+			forUnit = api.ErrOp
+		}
+		list := []api.Ins{{Op: f.op}, {Op: api.Return}}
+		l := Limits{Regs: 1, Slots: 1, Vars: 1}
+		if err, at := Check(list, l); err != forProgram || at != 0 {
+			t.Errorf("a program's Op %d: %d, %d; want %d, 0", f.op, err, at, forProgram)
+		}
+		l.Unit = true
+		if err, at := Check(list, l); err != forUnit || at != 0 {
+			t.Errorf("a unit's Op %d: %d, %d; want %d, 0", f.op, err, at, forUnit)
+		}
+	}
+}
+
+func TestP1NoInstructions(t *testing.T) {
+	for _, unit := range []bool{false, true} {
+		for _, list := range [][]api.Ins{nil, {}} {
+			if err, at := Check(list, Limits{Unit: unit, Regs: 1}); err != api.ErrSize || at != 0 {
+				t.Errorf("Check of nothing = %d, %d; want ErrSize, 0", err, at)
+			}
+		}
 	}
 }

@@ -36,14 +36,33 @@ var kinds = [api.Store + 1][3]int{
 	api.Store:  {slot, register, none},
 }
 
-// Limits has how many there are of what a field may name; Code is the number of instructions.
+// Limits has how many there are of what a field may name, beside the instructions themselves.
+// Unit tells that the code is a unit's, not a program's.
 type Limits struct {
-	Regs, Slots, Vars, Code int
+	Unit              bool
+	Regs, Slots, Vars int
 }
 
-// FieldError tells the error of the first field, of those that x has, that is out of its range.
-func FieldError(x api.Ins, l Limits) api.Errno {
-	if x.Op < 0 || x.Op >= len(kinds) {
+// Check tells the first error of a list of instructions and its place.
+func Check(list []api.Ins, l Limits) (api.Errno, int) {
+	if len(list) == 0 {
+		return api.ErrSize, 0
+	}
+	for i := 0; i < len(list); i++ {
+		err := insError(list[i], l, len(list))
+		if err != api.OK {
+			return err, i
+		}
+	}
+	last := len(list) - 1
+	if list[last].Op != api.Jump && list[last].Op != api.Return {
+		return api.ErrEnd, last
+	}
+	return api.OK, 0
+}
+
+func insError(x api.Ins, l Limits, targets int) api.Errno {
+	if !isOp(x.Op, l.Unit) {
 		return api.ErrOp
 	}
 	fields := [3]int{x.D, x.A, x.B}
@@ -52,7 +71,7 @@ func FieldError(x api.Ins, l Limits) api.Errno {
 		if kind == none {
 			continue
 		}
-		count, err := rangeOf(kind, l)
+		count, err := rangeOf(kind, l, targets)
 		if fields[i] < 0 || fields[i] >= count {
 			return err
 		}
@@ -60,15 +79,25 @@ func FieldError(x api.Ins, l Limits) api.Errno {
 	return api.OK
 }
 
+func isOp(op int, unit bool) bool {
+	if op >= api.Const && op <= api.Stop {
+		return true
+	}
+	if unit {
+		return op == api.Load || op == api.Store
+	}
+	return op == api.Bind || op == api.Tie || op == api.Free
+}
+
 // rangeOf tells how many numbers, from 0 on, a field of this kind may be, and the error of any other.
-func rangeOf(kind int, l Limits) (int, api.Errno) {
+func rangeOf(kind int, l Limits, targets int) (int, api.Errno) {
 	switch kind {
 	case register:
 		return l.Regs, api.ErrReg
 	case constant:
 		return api.MaxValue + 1, api.ErrConst
 	case target:
-		return l.Code, api.ErrTarget
+		return targets, api.ErrTarget
 	case number:
 		return api.MaxStop + 1, api.ErrStop
 	case variable:
